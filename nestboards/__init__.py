@@ -1,0 +1,1 @@
+"""Nestboards: jobs by rising skill, and the ways to give them to a team."""

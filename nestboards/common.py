@@ -1,0 +1,41 @@
+"""What several files need: bounds of integers, their errors, and fractions."""
+
+from math import gcd
+from nestboards.errors import InvalidIndex, InvalidJob, InvalidNumber, InvalidWorker
+
+GREATEST_JOB = 59
+
+
+def is_whole(thing):
+    # A boolean is an int for Python, but the document bars it.
+    return isinstance(thing, int) and not isinstance(thing, bool)
+
+
+def is_within(thing, least, greatest):
+    return is_whole(thing) and least <= thing <= greatest
+
+
+def check_worker(team, worker):
+    if not is_within(worker, 0, len(team) - 1):
+        raise InvalidWorker("a worker is an index of the team")
+
+
+def check_job(job):
+    if not is_within(job, 0, GREATEST_JOB):
+        raise InvalidJob(f"a job is an integer from 0 to {GREATEST_JOB}")
+
+
+def check_many(team, many):
+    if not is_within(many, 0, len(team)):
+        raise InvalidNumber("a size is an integer from 0 to the number of workers")
+
+
+def check_index(index, total):
+    if not is_within(index, 0, total - 1):
+        raise InvalidIndex(f"an index is an integer from 0 on and below {total}")
+
+
+def fraction(top, bottom):
+    """The tuple of top and bottom without a common divisor; bottom is at least 1."""
+    common = gcd(top, bottom)
+    return (top // common, bottom // common)
