@@ -1,4 +1,4 @@
-"""What several files need: bounds of integers, their errors, and fractions."""
+"""What several files need: bounds of integers, their errors, lists of numbers, and fractions."""
 
 from math import gcd
 from nestboards.errors import InvalidIndex, InvalidJob, InvalidNumber, InvalidWorker
@@ -33,6 +33,11 @@ def check_many(team, many):
 def check_index(index, total):
     if not is_within(index, 0, total - 1):
         raise InvalidIndex(f"an index is an integer from 0 on and below {total}")
+
+
+def item_or_0(numbers, place):
+    """What a list of numbers has at a place, 0 before and behind the list."""
+    return numbers[place] if 0 <= place < len(numbers) else 0
 
 
 def fraction(top, bottom):

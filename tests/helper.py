@@ -1,17 +1,35 @@
 """What several tests need: teams, all their ways made one by one, and objects of all kinds."""
 
-from itertools import product
+from itertools import permutations, product
 
 from nestboards import errors
 
 EXAMPLE = [2, 1, 2]
 STAIRS = [level for level in range(40, 60)]
+MIXED = [17, 3, 3, 0, 25, 40, 1, 17, 9, 9, 9, 30, 2, 12, 12, 5, 0, 41, 8, 3]
+# Spare numbers 1, 0, 1, 0 ..: of as many alike lists as ten places of twenty can be chosen.
+TWINS = [level for level in range(1, 21, 2) for _ in range(2)]
+GREAT_TEAMS = [STAIRS, STAIRS[::-1], MIXED, TWINS, [40] * 20, [20] * 20, [1] * 20, [0] * 20, [0] * 19 + [59]]
+GREAT_TEAMS += [[3] * 10 + [12] * 10, [7, 7, 0, 19, 33, 33, 2, 2, 2, 11, 50, 4]]
+# Teams of twenty without a level above twenty, as full lists need them.
+HIT_TEAMS = [[20] * 20, [0] * 20, [10] * 20, list(range(20)), list(range(20, 0, -1)), TWINS, [0] * 19 + [20]]
+HIT_TEAMS += [[9, 3, 20, 19, 4, 4, 17, 14, 14, 13, 10, 11, 2, 2, 15, 7, 6, 8, 20, 3]]
 
 
 def small_teams():
     """All teams of one to three workers with levels to 4, and some larger ones."""
     teams = [list(levels) for n in (1, 2, 3) for levels in product(range(5), repeat=n)]
     return teams + [[0, 0, 0, 0], [3, 1, 3, 2], [4, 4, 0, 1], [5, 2, 2, 5], [1, 1, 1, 1, 1], [2, 0, 3, 1, 2]]
+
+
+def teams_to_four(greatest=5):
+    """All teams of one to four workers with levels up to the greatest one."""
+    return [list(levels) for n in range(1, 5) for levels in product(range(greatest + 1), repeat=n)]
+
+
+def ascending_to_four(greatest=5):
+    """Of these the lists of ascending levels."""
+    return [team for team in teams_to_four(greatest) if team == sorted(team)]
 
 
 def line_by_hand(team):
@@ -43,14 +61,48 @@ def size_of(way):
     return len(way) - way.count(None)
 
 
-def ordered_ways(team, many):
-    """The ways of a size in the order that the document defines."""
+def ways_in_order(team):
+    """All ways, those of each size in the order that the document defines."""
     workers = line_by_hand(team)
 
     def place(way):
         return [1000 if way[worker] is None else way[worker] for worker in workers]
 
-    return sorted([way for way in all_ways(team) if size_of(way) == many], key=place)
+    return sorted(all_ways(team), key=place)
+
+
+def ordered_ways(team, many):
+    return [way for way in ways_in_order(team) if size_of(way) == many]
+
+
+def skips_by_hand(team, way):
+    """The skips of each worker, by index: the free jobs are told one by one."""
+    gone = set()
+    found = {}
+    for worker in line_by_hand(team):
+        end = team[worker] if way[worker] is None else way[worker]
+        found[worker] = len([job for job in range(end) if job not in gone])
+        gone.add(way[worker])
+    return [found[worker] for worker in range(len(team))]
+
+
+def full_lists(n):
+    """All full lists in ascending sequence."""
+    return [list(names) for names in permutations(range(n))]
+
+
+def hits_by_hand(team, names):
+    return len([worker for worker in range(len(team)) if names[worker] in range(team[worker])])
+
+
+def as_tuple(share):
+    return share.numerator, share.denominator
+
+
+def some_indices(total):
+    """The first, the last and some further indices of so many."""
+    found = {0, 1, total // 7, total // 3, total // 2, total - 2, total - 1}
+    return [index for index in sorted(found) if 0 <= index < total]
 
 
 def counts_by_hand(team):
@@ -98,3 +150,23 @@ def no_ways():
 
 def no_integers():
     return [thing for thing in plain_things() + odd_lists() if isinstance(thing, bool) or not isinstance(thing, int)]
+
+
+NO_INDICES = [-1, -2, -(10 ** 30), 10 ** 60, True, False, None, "0", [0], (0,)]
+
+
+def no_counts():
+    """Objects that do not even have the form of counts."""
+    members = [True, False, "1", None, (), (1,), [], [1], {}, errors.NestError("x"), -1, -(10 ** 30)]
+    lists = [[], [1], [0], [1] * 22, [1] + [0] * 21, [1, 5, 4, -1], nested(20), [[]] * 1999, [0] * 2000]
+    lists += [[1, member, 0] for member in members] + [[member, 1] for member in members]
+    return plain_things() + lists + [[1, 5, member] for member in members]
+
+
+def no_full_lists():
+    """Objects that are no full lists of three workers."""
+    lists = [
+        [0, 1], [0, 1, 2, 3], [0, 1, 3], [1, 2, 3], [0, 0, 1], [0, 1, 1], [2, 2, 2], [-1, 0, 1], [0, 1, None],
+        [None, 0, 1], [False, 1, 2], [0, True, 2], [True, False, 2], [0, 1, 10 ** 30], [[0], 1, 2], [0, 1, "2"],
+    ]
+    return plain_things() + odd_lists() + lists + [(0, 1, 2)]

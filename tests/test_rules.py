@@ -5,8 +5,8 @@ import importlib
 import inspect
 import unittest
 
-from nestboards.errors import InvalidTeam
-from tests.helper import EXAMPLE, STAIRS, no_teams, plain_things
+from nestboards.errors import InvalidCounts, InvalidList, InvalidTeam, InvalidWay, NestError
+from tests.helper import EXAMPLE, HIT_TEAMS, STAIRS, no_counts, no_full_lists, no_teams, no_ways, plain_things
 
 # The functions by their files, each with arguments that are valid.
 INTERFACE = {
@@ -32,12 +32,55 @@ INTERFACE = {
         "way_index": {"team": EXAMPLE, "way": [0, None, 1]},
         "next_way": {"team": EXAMPLE, "way": [0, None, 1]},
     },
+    "skips": {
+        "skips_of": {"team": EXAMPLE, "way": [1, None, 0]},
+        "skips_by_worker": {"team": EXAMPLE, "way": [1, None, 0]},
+        "skip_counts": {"team": EXAMPLE, "many": 1},
+        "nth_by_skips": {"team": EXAMPLE, "many": 2, "skips": 1, "index": 0},
+        "skips_index": {"team": EXAMPLE, "way": [0, None, 1]},
+        "least_skips": {"team": EXAMPLE, "many": 1},
+        "greatest_skips": {"team": EXAMPLE, "many": 1},
+        "mean_skips": {"team": EXAMPLE, "many": 1},
+    },
+    "alike": {
+        "are_alike": {"team": EXAMPLE, "other": [3, 0, 2]},
+        "parting": {"team": EXAMPLE, "other": [2, 2]},
+        "unlike_count": {"team": EXAMPLE, "other": [4, 1]},
+        "count_alike": {"team": EXAMPLE},
+        "nth_alike": {"team": EXAMPLE, "index": 1},
+        "alike_index": {"team": EXAMPLE, "other": [1, 2, 2]},
+        "strict_team": {"team": EXAMPLE},
+    },
+    "back": {
+        "is_counts": {"thing": [1, 5, 4, 0]},
+        "spare_from": {"counts": [1, 5, 4, 0]},
+        "team_from": {"counts": [1, 5, 4, 0]},
+        "reason_against": {"counts": [1, 41]},
+        "shows_reason": {"counts": [1, 41], "thing": ("left", 1)},
+    },
+    "hits": {
+        "hit_counts": {"team": EXAMPLE},
+        "hits_of": {"team": EXAMPLE, "names": [0, 2, 1]},
+        "nth_list": {"team": EXAMPLE, "hits": 2, "index": 1},
+        "list_index": {"team": EXAMPLE, "names": [2, 0, 1]},
+        "pair_by_hits": {"team": EXAMPLE, "worker": 1, "job": 0, "hits": 2},
+        "mean_hits": {"team": EXAMPLE},
+    },
 }
 ANSWERS = {
     "is_team": True, "line": [1, 0, 2], "spare_numbers": [1, 1, 0], "can_do": True, "able_counts": [3, 2],
     "others": [3, 4, 3], "counts": [1, 5, 4, 0], "greatest_size": 2, "limit_of": 2, "shows_limit": True,
     "likeliest": [1], "mean_size": (13, 10), "is_way": True, "nth_way": [1, None, 0], "way_index": 2,
-    "next_way": [1, None, 0],
+    "next_way": [1, None, 0], "skips_of": 2, "skips_by_worker": [1, 1, 0], "skip_counts": [0, 0, 2, 2, 1],
+    "nth_by_skips": [None, 0, 1], "skips_index": 1, "least_skips": 2, "greatest_skips": 4, "mean_skips": (14, 5),
+    "are_alike": True, "parting": 0, "unlike_count": 2, "count_alike": 3, "nth_alike": [1, 1, 3], "alike_index": 2,
+    "strict_team": [0, 2, 3], "is_counts": True, "spare_from": [0, 1, 1], "team_from": [0, 2, 3],
+    "reason_against": ("left", 1), "shows_reason": True, "hit_counts": [0, 2, 4, 0], "hits_of": 2,
+    "nth_list": [1, 0, 2], "list_index": 3, "pair_by_hits": (1, 2), "mean_hits": (5, 3),
+}
+WRONG = {
+    "other": (no_teams, InvalidTeam), "way": (no_ways, InvalidWay), "names": (no_full_lists, InvalidList),
+    "counts": (no_counts, InvalidCounts),
 }
 
 
@@ -77,9 +120,11 @@ class RulesTest(unittest.TestCase):
     def test_twenty_workers_are_unchanged(self):
         for function, arguments in functions():
             if list(arguments) == ["team"]:
-                team = STAIRS[::-1]
+                # Full lists are of teams without a level above twenty.
+                kept = HIT_TEAMS[-1] if function.__module__ == "nestboards.hits" else STAIRS[::-1]
+                team = list(kept)
                 function(team)
-                self.assertEqual(team, STAIRS[::-1], function.__name__)
+                self.assertEqual(team, kept, function.__name__)
 
     def test_wrong_things_are_unchanged(self):
         for function, arguments in functions():
@@ -105,6 +150,23 @@ class RulesTest(unittest.TestCase):
                 for team in no_teams():
                     with self.assertRaises(InvalidTeam, msg=(function.__name__, team)):
                         function(**{**arguments, "team": team})
+
+    def test_objects_that_are_no_others_ways_lists_or_counts(self):
+        for function, arguments in functions():
+            for name, (things, error) in WRONG.items():
+                if name in arguments:
+                    for thing in things():
+                        with self.assertRaises(error, msg=(function.__name__, thing)):
+                            function(**{**arguments, name: thing})
+
+    def test_wrong_objects_are_unchanged(self):
+        for function, arguments in functions():
+            for name in WRONG:
+                if name in arguments:
+                    thing = [[2], 1, {"a": [2]}]
+                    with self.assertRaises(NestError):
+                        function(**{**arguments, name: thing})
+                    self.assertEqual(thing, [[2], 1, {"a": [2]}], function.__name__)
 
     def test_team_decides_before_all_others(self):
         for function, arguments in functions():

@@ -5,9 +5,7 @@ import unittest
 from nestboards.counting import counts
 from nestboards.errors import InvalidIndex, InvalidNumber, InvalidTeam, InvalidWay
 from nestboards.ways import is_way, next_way, nth_way, way_index
-from tests.helper import EXAMPLE, STAIRS, all_ways, no_teams, no_ways, ordered_ways, small_teams
-
-MIXED = [17, 3, 3, 0, 25, 40, 1, 17, 9, 9, 9, 30, 2, 12, 12, 5, 0, 41, 8, 3]
+from tests.helper import EXAMPLE, MIXED, STAIRS, all_ways, no_teams, no_ways, ordered_ways, small_teams
 
 
 class IsWayTest(unittest.TestCase):
