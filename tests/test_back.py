@@ -196,16 +196,13 @@ class GreatListsTest(unittest.TestCase):
 
     def check_product(self, part, spares, left):
         found = counts_of(product_of([part] + [[spare, 1] for spare in spares]))
-        if min(found) >= 0:
-            self.assertEqual(reason_against(found), ("left", left))
-            self.assertEqual(left, left_by_hand(found))
-            self.assertIs(shows_reason(found, ("left", left)), True)
-            self.assertIs(shows_reason(found, ("left", left + 1)), False)
-            self.assertIs(is_counts(found), False)
-            self.assertIs(spare_from(found), None)
-            self.assertIs(team_from(found), None)
-        else:
-            self.assertRaises(InvalidCounts, reason_against, found)
+        self.assertEqual(reason_against(found), ("left", left))
+        self.assertEqual(left, left_by_hand(found))
+        self.assertIs(shows_reason(found, ("left", left)), True)
+        self.assertIs(shows_reason(found, ("left", left + 1)), False)
+        self.assertIs(is_counts(found), False)
+        self.assertIs(spare_from(found), None)
+        self.assertIs(team_from(found), None)
 
     def test_spare_numbers_at_their_bound(self):
         self.assertEqual(team_from([1, 40]), [40])
