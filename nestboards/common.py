@@ -1,7 +1,7 @@
-"""What several files need: bounds of integers, their errors, lists of numbers, and fractions."""
+"""What several files need: bounds of integers, their errors, lists of numbers, free jobs, and fractions."""
 
 from math import gcd
-from nestboards.errors import InvalidIndex, InvalidJob, InvalidNumber, InvalidWorker
+from nestboards.errors import InvalidIndex, InvalidJob, InvalidNumber, InvalidWorker, NoWay
 
 GREATEST_JOB = 59
 
@@ -35,9 +35,21 @@ def check_index(index, total):
         raise InvalidIndex(f"an index is an integer from 0 on and below {total}")
 
 
+def needed(ways):
+    """A number of ways where a point needs one."""
+    if ways == 0:
+        raise NoWay("there is no such way")
+    return ways
+
+
 def item_or_0(numbers, place):
     """What a list of numbers has at a place, 0 before and behind the list."""
     return numbers[place] if 0 <= place < len(numbers) else 0
+
+
+def left_levels(levels, taken):
+    """How many jobs below each level are free if these jobs are taken."""
+    return [level - len([job for job in taken if job < level]) for level in levels]
 
 
 def fraction(top, bottom):

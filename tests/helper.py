@@ -1,6 +1,9 @@
 """What several tests need: teams, all their ways made one by one, and objects of all kinds."""
 
-from itertools import permutations, product
+from fractions import Fraction
+from functools import lru_cache
+from itertools import combinations, permutations, product
+from random import Random
 
 from nestboards import errors
 
@@ -63,12 +66,18 @@ def size_of(way):
 
 def ways_in_order(team):
     """All ways, those of each size in the order that the document defines."""
+    return [list(way) for way in ways_once(tuple(team))]
+
+
+@lru_cache(maxsize=None)
+def ways_once(team):
+    # Several tests go over the same teams: their ways are made once.
     workers = line_by_hand(team)
 
     def place(way):
         return [1000 if way[worker] is None else way[worker] for worker in workers]
 
-    return sorted(all_ways(team), key=place)
+    return [tuple(way) for way in sorted(all_ways(team), key=place)]
 
 
 def ordered_ways(team, many):
@@ -97,6 +106,48 @@ def hits_by_hand(team, names):
 
 def as_tuple(share):
     return share.numerator, share.denominator
+
+
+def part(top, bottom):
+    """A share as the package tells it."""
+    return as_tuple(Fraction(top, bottom))
+
+
+def has_all(way, pairs):
+    return all(way[worker] == job for worker, job in pairs)
+
+
+def has_none(way, pairs):
+    return not any(way[worker] == job for worker, job in pairs)
+
+
+def workers_of(way):
+    return tuple(worker for worker, job in enumerate(way) if job is not None)
+
+
+def jobs_of(way):
+    return tuple(sorted(job for job in way if job is not None))
+
+
+def pairs_of(way):
+    return [(worker, job) for worker, job in enumerate(way) if job is not None]
+
+
+def pair_pool(team):
+    """All pairs of a small team, also with the job that nobody can do."""
+    return [(worker, job) for worker in range(len(team)) for job in range(max(team) + 1)]
+
+
+def drawn_pairs(team, often, most):
+    """So many lists of unlike pairs of the pool, the same ones at each call."""
+    drawn = Random(str(team))
+    pool = pair_pool(team)
+    return [drawn.sample(pool, min(len(pool), drawn.randrange(most + 1))) for _ in range(often)]
+
+
+def ascending_lists(numbers, most):
+    """All ascending lists of up to so many of these numbers."""
+    return [list(row) for many in range(most + 1) for row in combinations(numbers, many)]
 
 
 def some_indices(total):
@@ -153,6 +204,37 @@ def no_integers():
 
 
 NO_INDICES = [-1, -2, -(10 ** 30), 10 ** 60, True, False, None, "0", [0], (0,)]
+
+
+def no_workers():
+    """Objects that are no ascending lists of workers of the example."""
+    lists = [
+        [3], [0, 3], [-1], [-1, 0], [1, 0], [0, 0], [0, 1, 1], [2, 1, 0], [0, 2, 1], [0, 1, 2, 3], [0, 1, 2, 2],
+        [False], [True], [False, True], [0, True], [None], [0, None, 2], ["0"], [(0,)], [[0]], [10 ** 30],
+    ]
+    return plain_things() + odd_lists()[1:] + lists + [(0, 1), {0: 1}]
+
+
+def no_jobs():
+    """Objects that are no ascending lists of up to twenty jobs."""
+    lists = [
+        [60], [0, 60], [59, 60], [-1], [-1, 0], [1, 0], [0, 0], [58, 59, 59], [5, 4, 3], list(range(21)),
+        list(range(39, 60)), [0] * 20, [False], [True], [0, True], [None], [0, None, 2], ["0"], [(0,)], [10 ** 30],
+    ]
+    return plain_things() + odd_lists()[1:] + lists + [(0, 1), {0: 1}]
+
+
+def no_pairs():
+    """Objects that are neither pairs nor barred pairs of the example."""
+    members = [
+        (), (0,), (0, 0, 0), [0, 0], (3, 0), (-1, 0), (10 ** 30, 0), (0, 60), (0, -1), (0, 10 ** 30), (True, 0),
+        (0, False), (False, True), ("0", 0), (0, "0"), (None, 0), (0, None), ((0,), 0), (0, (0,)), ([0], 0), ({}, 0),
+        None, True, 0, "0:0", {}, {"0": 0}, errors.Refused("busy"), (errors.NestError("x"), 0),
+    ]
+    lists = [[member] for member in members] + [[(0, 0), member] for member in members]
+    twice = [[(0, 0), (0, 0)], [(0, 0), (1, 0), (0, 0)], [(2, 59), (2, 59)], [(0, job) for job in range(21)]]
+    wrong = [thing for thing in odd_lists() if thing != []]
+    return plain_things() + lists + twice + wrong + [((0, 0),), {(0, 0): 1}, nested(19)]
 
 
 def no_counts():

@@ -5,8 +5,13 @@ import importlib
 import inspect
 import unittest
 
-from nestboards.errors import InvalidCounts, InvalidList, InvalidTeam, InvalidWay, NestError
-from tests.helper import EXAMPLE, HIT_TEAMS, STAIRS, no_counts, no_full_lists, no_teams, no_ways, plain_things
+from nestboards.errors import (
+    InvalidCounts, InvalidJobs, InvalidList, InvalidPairs, InvalidTeam, InvalidWay, InvalidWorkers, NestError,
+)
+from tests.helper import (
+    EXAMPLE, HIT_TEAMS, STAIRS, no_counts, no_full_lists, no_jobs, no_pairs, no_teams, no_ways, no_workers,
+    plain_things,
+)
 
 # The functions by their files, each with arguments that are valid.
 INTERFACE = {
@@ -66,6 +71,45 @@ INTERFACE = {
         "pair_by_hits": {"team": EXAMPLE, "worker": 1, "job": 0, "hits": 2},
         "mean_hits": {"team": EXAMPLE},
     },
+    "sets": {
+        "can_work": {"team": EXAMPLE, "workers": [0, 2]},
+        "work_paper": {"team": EXAMPLE, "workers": [0, 1, 2]},
+        "shows_work_paper": {"team": EXAMPLE, "workers": [0, 1, 2], "thing": 2},
+        "ways_of_workers": {"team": EXAMPLE, "workers": [0, 2]},
+        "can_give": {"team": EXAMPLE, "jobs": [0, 1]},
+        "give_paper": {"team": EXAMPLE, "jobs": [1, 2]},
+        "shows_give_paper": {"team": EXAMPLE, "jobs": [1, 2], "thing": 2},
+        "ways_of_jobs": {"team": EXAMPLE, "jobs": [0, 1]},
+        "ways_of_both": {"team": EXAMPLE, "workers": [0, 2], "jobs": [0, 1]},
+        "always_work": {"team": EXAMPLE, "many": 2},
+        "always_given": {"team": EXAMPLE, "many": 2},
+        "worker_share": {"team": EXAMPLE, "many": 2, "worker": 0},
+        "job_share": {"team": EXAMPLE, "many": 1, "job": 0},
+    },
+    "known": {
+        "can_hold": {"team": EXAMPLE, "pairs": [(1, 0), (0, 1)]},
+        "hold_paper": {"team": EXAMPLE, "pairs": [(0, 0), (0, 1)]},
+        "count_with": {"team": EXAMPLE, "pairs": [(0, 1)], "many": 2},
+        "nth_with": {"team": EXAMPLE, "pairs": [(0, 1)], "many": 2, "index": 1},
+        "share_with": {"team": EXAMPLE, "pairs": [(0, 1)], "many": 2},
+        "next_share": {"team": EXAMPLE, "pairs": [(0, 1)], "many": 2, "worker": 1, "job": 0},
+        "sure_pairs": {"team": EXAMPLE, "pairs": [(1, 0), (0, 1)], "many": 2},
+        "best_question": {"team": EXAMPLE, "pairs": [(0, 1)], "many": 2},
+    },
+    "barred": {
+        "count_barred": {"team": EXAMPLE, "pairs": [(0, 1)], "barred": [(1, 0)], "many": 2},
+        "barred_share": {
+            "team": EXAMPLE, "pairs": [], "barred": [(0, 1), (2, 59)], "many": 2, "worker": 1, "job": 0,
+        },
+        "way_barred": {"team": EXAMPLE, "pairs": [(0, 1)], "barred": [(1, 0)], "many": 2},
+    },
+    "lessons": {
+        "fewest_lessons": {"team": EXAMPLE, "many": 3},
+        "taught": {"team": EXAMPLE, "many": 3},
+        "shows_lessons": {"team": EXAMPLE, "many": 3, "thing": [3, 1, 2]},
+        "best_lesson": {"team": EXAMPLE, "many": 2},
+        "lost_by": {"team": EXAMPLE, "worker": 1},
+    },
 }
 ANSWERS = {
     "is_team": True, "line": [1, 0, 2], "spare_numbers": [1, 1, 0], "can_do": True, "able_counts": [3, 2],
@@ -77,10 +121,18 @@ ANSWERS = {
     "strict_team": [0, 2, 3], "is_counts": True, "spare_from": [0, 1, 1], "team_from": [0, 2, 3],
     "reason_against": ("left", 1), "shows_reason": True, "hit_counts": [0, 2, 4, 0], "hits_of": 2,
     "nth_list": [1, 0, 2], "list_index": 3, "pair_by_hits": (1, 2), "mean_hits": (5, 3),
+    "can_work": True, "work_paper": 2, "shows_work_paper": True, "ways_of_workers": 2, "can_give": True,
+    "give_paper": 2, "shows_give_paper": True, "ways_of_jobs": 4, "ways_of_both": 2, "always_work": [],
+    "always_given": [0, 1], "worker_share": (3, 4), "job_share": (3, 5), "can_hold": True, "hold_paper": ("worker", 1),
+    "count_with": 2, "nth_with": [1, None, 0], "share_with": (1, 2), "next_share": (1, 2),
+    "sure_pairs": [(0, 1), (1, 0)], "best_question": (1, 0), "count_barred": 1, "barred_share": (1, 2),
+    "way_barred": [1, None, 0], "fewest_lessons": 1, "taught": [2, 1, 3], "shows_lessons": True, "best_lesson": 0,
+    "lost_by": [1, 4, 2],
 }
 WRONG = {
     "other": (no_teams, InvalidTeam), "way": (no_ways, InvalidWay), "names": (no_full_lists, InvalidList),
-    "counts": (no_counts, InvalidCounts),
+    "counts": (no_counts, InvalidCounts), "workers": (no_workers, InvalidWorkers), "jobs": (no_jobs, InvalidJobs),
+    "pairs": (no_pairs, InvalidPairs), "barred": (no_pairs, InvalidPairs),
 }
 
 
