@@ -49,11 +49,11 @@ def way_barred(team, pairs, barred, many):
     for worker in line(team):
         if known[worker] is None:
             job = first_job(levels, found, barred, many, worker)
-            if job is not None:
-                found.append((worker, job))
-            # Who goes without a job is one who can do none, for those behind.
-            else:
+            if job is None:
+                # From here on the worker is as good as one who can do nothing.
                 levels[worker] = 0
+            else:
+                found.append((worker, job))
     return way_of(team, found)
 
 

@@ -6,6 +6,7 @@ from itertools import combinations, permutations, product
 from random import Random
 
 from nestboards import errors
+from nestboards.live import Bench
 
 EXAMPLE = [2, 1, 2]
 STAIRS = [level for level in range(40, 60)]
@@ -173,7 +174,7 @@ def plain_things():
     return [
         None, True, False, 0, 1, -1, 40, 10 ** 30, -(10 ** 30), "", "2 1 2", "a\nb", (), (2, 1, 2), (None, 0, 1),
         ((1, 2), [3]), {}, {"team": [2, 1, 2]}, {"0": 2}, errors.NestError("x"), errors.InvalidTeam("x"),
-        errors.Refused("busy"), errors.InvalidText(3),
+        errors.Refused("busy"), errors.InvalidText(3), Bench(), {"bench": [Bench()]},
     ]
 
 

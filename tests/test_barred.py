@@ -38,6 +38,8 @@ class ExampleTest(unittest.TestCase):
         self.assertEqual(way_barred([3, 3, 3], [], [(1, 0), (2, 0)], 3), [0, 1, 2])
         self.assertEqual(way_barred([3, 3, 3], [], [(1, 1), (2, 1)], 3), [1, 0, 2])
         self.assertEqual(way_barred([1, 1], [], [(0, 0)], 1), [None, 0])
+        # Worker 0, who can do nothing, is no help if worker 1 takes job 1.
+        self.assertEqual(way_barred([0, 3, 3], [], [(1, 0), (2, 0), (2, 2)], 2), [None, 2, 1])
 
 
 class SmallTeamsTest(unittest.TestCase):

@@ -9,7 +9,8 @@ import nestboards
 
 FOLDER = os.path.dirname(os.path.abspath(nestboards.__file__))
 BUILTINS = """len range enumerate zip min max sum abs sorted reversed int str bool list tuple dict set isinstance ord
-repr any all divmod Exception ValueError TypeError KeyError IndexError LookupError ZeroDivisionError""".split()
+repr any all divmod type property
+Exception ValueError TypeError KeyError IndexError LookupError ZeroDivisionError""".split()
 METHODS = """append clear copy count endswith extend find get index insert isalnum isalpha isdigit islower isspace
 isupper items join keys ljust lower lstrip partition pop remove replace reverse rfind rjust rpartition rsplit rstrip
 setdefault split splitlines startswith strip update upper values zfill bit_length add discard""".split()
@@ -152,6 +153,21 @@ class StatementsTest(unittest.TestCase):
                 self.assertNotIsInstance(node, NOT_USED, name)
                 if isinstance(node, (ast.FunctionDef, ast.ClassDef)):
                     self.assertLessEqual({ast.unparse(row) for row in node.decorator_list}, {"property"}, name)
+
+    def test_the_word_for_kinds_stands_only_before_a_name(self):
+        for name, tree in trees().items():
+            allowed = [
+                node.value.func for node in ast.walk(tree)
+                if isinstance(node, ast.Attribute) and node.attr == "__name__" and isinstance(node.value, ast.Call)
+            ]
+            used = [node for node in ast.walk(tree) if isinstance(node, ast.Name) and node.id == "type"]
+            self.assertTrue(all(node in allowed for node in used), name)
+
+    def test_errors_that_are_caught(self):
+        for name, tree in trees().items():
+            for node in ast.walk(tree):
+                if isinstance(node, ast.ExceptHandler):
+                    self.assertEqual(node.type.id, "NestError", name)
 
     def test_literals(self):
         for name, tree in trees().items():
